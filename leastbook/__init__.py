@@ -1,0 +1,1 @@
+"""Leastbook: books whose words tell pages, set as early as can be."""
