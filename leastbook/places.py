@@ -14,6 +14,9 @@ LINE = 1
 USED = 2
 FOOT = 3
 
+# Of a place; its page and line stand where a state has them.
+COLUMN = 2
+
 
 def figures(number):
     return len(str(number))

@@ -63,18 +63,34 @@ def set_book(book, style, rooms):
     return told
 
 
+def pages_with(items, places, kind):
+    found = []
+    words_set = 0
+    for item in items:
+        if is_set(item):
+            words_set += 1
+        elif item[0] == kind:
+            # A mark or key stands with the word that is set next.
+            found.append((item[1], places[words_set][PAGE]))
+    return found
+
+
 def label_pages(book, told):
     pages = {}
     for block, places in zip(book, told[1:]):
         if label_of(block) != "":
             pages[label_of(block)] = places[0][PAGE]
-        words_set = 0
-        for item in items_of(block):
-            if is_set(item):
-                words_set += 1
-            elif item[0] == "mark":
-                pages[item[1]] = places[words_set][PAGE]
+        for label, page in pages_with(items_of(block), places, "mark"):
+            pages[label] = page
     return pages
+
+
+def title_pages(book, told):
+    titles = []
+    for block, places in zip(book, told[1:]):
+        if is_titled(block):
+            titles.append((block[1], places[0][PAGE]))
+    return titles
 
 
 def laid(book, style, rooms):

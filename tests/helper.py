@@ -1,6 +1,8 @@
 """What several tests share: short names for blocks and items, all states of a
-style, books made from a seed, and a plain second reckoning of a set book."""
+style, books made from a seed, and a plain second reckoning of a set book: its
+places, what its references ought to have, and its pages."""
 
+import itertools
 import random
 
 
@@ -142,6 +144,48 @@ def made_books(count):
     return made
 
 
+class EdgeMaker(BookMaker):
+    """Books whose labels stand where a power of ten is near, in pages that are nearly full."""
+
+    def make_style(self):
+        return (self.chance.randint(6, 9), self.chance.randint(2, 4),
+                self.chance.random() < 0.3, self.chance.random() < 0.2)
+
+    def make_book(self):
+        near = self.chance.choice([8, 8, 8, 7, 98, 98, 97])
+        blocks = [plates(near - self.chance.choice([0, 0, 1]))]
+        for number in range(self.chance.randint(1, 3)):
+            blocks.append(("para", self.make_items()))
+        if self.chance.random() < 0.5:
+            blocks.append(plates(self.chance.choice([1, 88, 89, 90]), self.fresh_label()))
+            blocks.append(("para", self.make_items()))
+        labels = labels_of(blocks)
+        return [("para", self.point_refs(block[1], labels)) if block[0] == "para" else block
+                for block in blocks]
+
+    def make_items(self):
+        width = self.style[0]
+        items = []
+        for number in range(self.chance.randint(2, 4)):
+            items.append(word("w" * self.chance.choice([1, 2, width - 4, width - 3, width - 2])))
+            items.append(mark(self.fresh_label()))
+            items.append(self.chance.choice([ref("", "", ""), ref("", "", ""), word("x"), word("y", "note")]))
+        return items
+
+
+def edge_books(count):
+    """(book, style) for so many seeds."""
+    made = []
+    for seed in range(count):
+        maker = EdgeMaker(seed)
+        made.append((maker.make_book(), maker.style))
+    return made
+
+
+def all_rooms(count, room):
+    return [list(rooms) for rooms in itertools.product(range(1, room + 1), repeat=count)]
+
+
 class Sheet:
     """A second reckoning: counts the free rows of the page that is being filled."""
 
@@ -229,3 +273,120 @@ def reckoned_block(sheet, block, left):
             places.append(sheet.word(len(item[2] + item[3]) + left.pop(0), 0))
     sheet.close()
     return places
+
+
+def set_items(block):
+    return [item for item in block[1] if item[0] in ("word", "ref")]
+
+
+def items_with_places(block, places):
+    """(mark or key, place of what it stands with), in their order."""
+    found = []
+    for at, item in enumerate(block[1]):
+        if item[0] in ("mark", "key"):
+            behind = len([other for other in block[1][at:] if other[0] in ("word", "ref")])
+            found.append((item, places[len(places) - behind]))
+    return found
+
+
+def things(book, told):
+    """From each label to the page of its thing, with the places as told."""
+    pages = {}
+    for block, places in zip(book, told[1:], strict=True):
+        if block[0] == "para":
+            pages.update((item[1], place[0]) for item, place in items_with_places(block, places)
+                         if item[0] == "mark")
+        elif block[-1]:
+            pages[block[-1]] = places[0][0]
+    return pages
+
+
+def ought(book, style, rooms):
+    """What needed ought to tell, by Sheet."""
+    pages = things(book, reckoned(book, style, rooms))
+    return [len(str(pages[item[1]])) for block in book if block[0] == "para"
+            for item in block[1] if item[0] == "ref"]
+
+
+def right_and_enough(book, style, count, room):
+    """All right rooms and all that are enough, of every list from 1 to the room."""
+    right, enough = [], []
+    for rooms in all_rooms(count, room):
+        wanted = ought(book, style, rooms)
+        if rooms == wanted:
+            right.append(rooms)
+        if all(given >= asked for given, asked in zip(rooms, wanted)):
+            enough.append(rooms)
+    return right, enough
+
+
+class Paper:
+    """Pages as signs in columns: each text is put where its place is told."""
+
+    def __init__(self, style):
+        self.width, self.height = style[0], style[1]
+        self.lines, self.notes = {}, {}
+
+    def put(self, place, text):
+        page, line, column = place
+        rows = self.lines.setdefault(page, [[None] * self.width for row in range(self.height)])
+        for at, sign in enumerate(text):
+            assert rows[line][column + at] is None, (place, text)
+            rows[line][column + at] = sign
+
+    def note(self, page, texts):
+        self.notes.setdefault(page, []).extend(texts)
+
+    def row(self, signs):
+        while signs and signs[-1] is None:
+            signs = signs[:-1]
+        return "".join(" " if sign is None else sign for sign in signs)
+
+    def told(self):
+        pages = []
+        for page in sorted(self.lines):
+            rows = [self.row(signs) for signs in self.lines[page]]
+            for at, text in enumerate(reversed(self.notes.get(page, [])), start=1):
+                assert rows[-at] == "", page
+                rows[-at] = text
+            pages.append((page, rows))
+        return pages
+
+
+def painted(book, style, rooms):
+    """What page_rows ought to tell, were these the least rooms."""
+    told = reckoned(book, style, rooms)
+    pages = things(book, told)
+    paper = Paper(style)
+    titled = [(block[1], places[0][0]) for block, places in zip(book, told[1:])
+              if block[0] in ("chapter", "heading")]
+    for place, (title, page) in zip(told[0], titled):
+        paper.put(place, dotted(title, page, style[0]))
+    for block, places in zip(book, told[1:], strict=True):
+        paint_block(paper, block, places, pages)
+    return paper.told()
+
+
+def dotted(title, page, width):
+    signs = ["."] * width
+    signs[:len(title) + 1] = title + " "
+    signs[width - len(str(page)) - 1:] = " " + str(page)
+    return "".join(signs)
+
+
+def paint_block(paper, block, places, pages):
+    if block[0] in ("chapter", "heading"):
+        paper.put(places[0], block[1])
+    elif block[0] == "table":
+        page, line, column = places[0]
+        for at, row in enumerate(block[1]):
+            paper.put((page, line + at, column), row)
+    elif block[0] == "para":
+        for item, place in zip(set_items(block), places, strict=True):
+            paper.put(place, item_text(item, pages))
+            if item[0] == "word":
+                paper.note(place[0], item[2])
+
+
+def item_text(item, pages):
+    return item[1] if item[0] == "word" else f"{item[2]}{pages[item[1]]}{item[3]}"

@@ -1,7 +1,7 @@
 import inspect
 import unittest
 
-from leastbook import books, places, setting
+from leastbook import books, least, lists, pages, places, setting, texts
 
 ARGUMENTS = [
     (places.figures, ["number"]),
@@ -19,11 +19,21 @@ ARGUMENTS = [
     (books.most_room, ["book", "style"]),
     (setting.laid, ["book", "style", "rooms"]),
     (setting.pages_of, ["book", "style", "rooms"]),
+    (least.needed, ["book", "style", "rooms"]),
+    (least.least, ["book", "style"]),
+    (least.greatest, ["book", "style"]),
+    (least.sole, ["book", "style"]),
+    (pages.page_rows, ["book", "style"]),
+    (lists.contents, ["book", "style"]),
+    (lists.keyed, ["book", "style"]),
+    (texts.written, ["book"]),
+    (texts.read, ["rows"]),
 ]
 
 STYLE = (10, 4, True, True)
 STATE = (3, 1, 4, 1)
-BOOK = [("chapter", "One", "a"), ("para", [("word", "w", ["n"]), ("ref", "a", "", "")])]
+BOOK = [("chapter", "One", "a"), ("para", [("key", "k"), ("word", "w", ["n"]), ("ref", "a", "", "")]),
+        ("heading", "H", 0, ""), ("table", ["r"], ""), ("plates", 2, "p")]
 
 
 def is_whole(value):
@@ -82,9 +92,51 @@ class InterfaceTest(unittest.TestCase):
             self.assertIs(type(inner), list)
             for place in inner:
                 self.assertTrue(is_tuple_of(place, 3), place)
-        pages = setting.pages_of(BOOK, STYLE, [1])
-        self.assertIs(type(pages), dict)
-        self.assertTrue(all(type(label) is str and is_whole(page) for label, page in pages.items()))
+        told = setting.pages_of(BOOK, STYLE, [1])
+        self.assertIs(type(told), dict)
+        self.assertTrue(all(type(label) is str and is_whole(page) for label, page in told.items()))
+
+    def test_rooms_are_lists_of_whole_numbers(self):
+        for told in (least.needed(BOOK, STYLE, [1]), least.least(BOOK, STYLE), least.greatest(BOOK, STYLE)):
+            self.assertIs(type(told), list)
+            self.assertTrue(all(is_whole(room) for room in told))
+        self.assertIs(least.sole(BOOK, STYLE), True)
+        self.assertIs(least.sole([], STYLE), True)
+
+    def check_pairs(self, told, first):
+        self.assertIs(type(told), list)
+        self.assertTrue(told)
+        for pair in told:
+            self.assertIs(type(pair), tuple)
+            self.assertEqual(len(pair), 2)
+            self.assertIs(type(pair[0]), first)
+
+    def test_pages_and_lists_are_lists_of_pairs(self):
+        told = pages.page_rows(BOOK, STYLE)
+        self.check_pairs(told, int)
+        for page, rows in told:
+            self.assertIs(type(rows), list)
+            self.assertTrue(all(type(row) is str for row in rows))
+        told = lists.contents(BOOK, STYLE)
+        self.check_pairs(told, str)
+        self.assertTrue(all(is_whole(page) for title, page in told))
+        told = lists.keyed(BOOK, STYLE)
+        self.check_pairs(told, str)
+        for key, key_pages in told:
+            self.assertIs(type(key_pages), list)
+            self.assertTrue(all(is_whole(page) for page in key_pages))
+
+    def check_kinds(self, one, other):
+        self.assertIs(type(one), type(other))
+        if type(one) in (list, tuple):
+            for part, part_other in zip(one, other, strict=True):
+                self.check_kinds(part, part_other)
+
+    def test_written_and_read(self):
+        rows = texts.written(BOOK)
+        self.assertIs(type(rows), list)
+        self.assertTrue(all(type(row) is str for row in rows))
+        self.check_kinds(texts.read(rows), BOOK)
 
 
 if __name__ == "__main__":

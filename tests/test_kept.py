@@ -5,8 +5,12 @@ import unittest
 
 from helper import chapter, heading, key, made_books, mark, para, plates, ref, table, word
 from leastbook.books import is_style, look, most_pages, most_room, refs
-from leastbook.errors import BookError
+from leastbook.errors import BookError, NoRow
+from leastbook.least import greatest, least, needed, sole
+from leastbook.lists import contents, keyed
+from leastbook.pages import page_rows
 from leastbook.setting import laid, pages_of
+from leastbook.texts import read, written
 
 STYLE = (12, 4, True, True)
 
@@ -26,13 +30,17 @@ def wrong_books():
 def calls(book, style, rooms):
     return [lambda: is_style(style), lambda: look(book, style), lambda: refs(book),
             lambda: most_pages(book, style), lambda: most_room(book, style),
-            lambda: laid(book, style, rooms), lambda: pages_of(book, style, rooms)]
+            lambda: laid(book, style, rooms), lambda: pages_of(book, style, rooms),
+            lambda: needed(book, style, rooms), lambda: least(book, style), lambda: greatest(book, style),
+            lambda: sole(book, style), lambda: page_rows(book, style), lambda: contents(book, style),
+            lambda: keyed(book, style), lambda: written(book)]
 
 
 def spoil(told):
-    if isinstance(told, list):
+    if isinstance(told, (list, tuple)):
         for inner in told:
             spoil(inner)
+    if isinstance(told, list):
         told.insert(0, "spoilt")
         told.append("spoilt")
     if isinstance(told, dict):
@@ -83,6 +91,48 @@ class KeptTest(unittest.TestCase):
         told[1].append("spoilt")
         told[4].append("spoilt")
         self.assertEqual(told, [["spoilt"], ["spoilt"], [], [], [(1, 0, 0), "spoilt"], [(2, 0, 0)]])
+
+    def test_told_notes_rows_and_keys_are_unlike_each_other(self):
+        book = [para(key("a"), key("b"), word("w", "n"), key("c"), word("v")), plates(1), table(["r"])]
+        style = (12, 4, False, False)
+        told = page_rows(book, style)
+        told[0][1].append("spoilt")
+        self.assertEqual(told[1], (3, ["r", "", "", ""]))
+        told = keyed(book, style)
+        told[0][1].append("spoilt")
+        self.assertEqual(told[1:], [("b", [1]), ("c", [1])])
+
+    def test_rows_are_the_same_behind_reading(self):
+        for rows in (written(full_book()), [], ["para", "word w"], ["para", "word w", "x"], ["table -"],
+                     ["table -", "para"], ["note n"]):
+            before = list(rows)
+            try:
+                read(rows)
+            except NoRow:
+                pass
+            self.assertEqual(rows, before)
+
+    def test_a_book_that_is_not_written_is_the_same_behind(self):
+        book = [para(word("w", "n"), ref("a", "|"))]
+        before = copy.deepcopy(book)
+        with self.assertRaises(NoRow):
+            written(book)
+        self.assertEqual(book, before)
+
+    def test_a_read_book_is_the_readers_own(self):
+        rows = written(full_book())
+        before = list(rows)
+        spoil(read(rows))
+        self.assertEqual(rows, before)
+        self.assertEqual(read(rows), full_book())
+
+    def test_lists_within_a_read_book_are_unlike_each_other(self):
+        book = read(["para", "word v", "word w", "para", "table -", "row r", "table -", "row r"])
+        book[0][1][0][2].append("spoilt")
+        book[1][1].append("spoilt")
+        book[2][1].append("spoilt")
+        self.assertEqual(book, [para(word("v", "spoilt"), word("w")), ("para", ["spoilt"]),
+                                table(["r", "spoilt"]), table(["r"])])
 
     def test_a_changed_book_has_its_own_answers(self):
         book, rooms = full_book(), [1, 2, 1]

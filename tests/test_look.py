@@ -3,6 +3,9 @@ import unittest
 from helper import chapter, heading, key, mark, para, plates, ref, table, word
 from leastbook.books import look, most_pages, most_room, refs
 from leastbook.errors import BookError, Loose, NoLabel, NoStyle, TooHigh, TooWide, Twice
+from leastbook.least import greatest, least, needed, sole
+from leastbook.lists import contents, keyed
+from leastbook.pages import page_rows
 from leastbook.setting import laid, pages_of
 
 PLAIN = (10, 4, False, False)
@@ -19,7 +22,12 @@ def ask_pages_of(book, style):
     return pages_of(book, style, [1] * len(refs(book)))
 
 
-ASKED = [look, most_pages, most_room, ask_laid, ask_pages_of]
+def ask_needed(book, style):
+    return needed(book, style, [1] * len(refs(book)))
+
+
+ASKED = [look, most_pages, most_room, ask_laid, ask_pages_of, ask_needed, least, greatest, sole, page_rows,
+         contents, keyed]
 
 
 class LookCase(unittest.TestCase):
